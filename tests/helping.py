@@ -1,0 +1,58 @@
+"""What several tests need: values of every kind, and comparing by kind, too."""
+
+from workerworlds.boxes import Box
+from workerworlds.worlds import World
+
+
+def nested(depth, inside):
+    """A value in so many lists and tuples, one in the other."""
+    for level in range(depth):
+        inside = [inside] if level % 2 else (inside,)
+    return inside
+
+
+def plain_values():
+    """Values of every kind that are no strings."""
+    return [
+        0, 1, -1, 13, 97, 10 ** 29, -(10 ** 29), True, False, None,
+        [], (), [[]], ((),), [()], ["a"], ("a",), ["a", "b"], ("a", "b"), [1, True, None],
+        ("a", ["b"]), (["g"], "a"), (("g",), "a"), ((("g",), "a"),), [(("g",), "a")],
+        nested(8, "a"), nested(7, []), list(range(599)), tuple(["a"] * 599),
+    ]
+
+
+def own_values():
+    """Objects and answers of the package, and values that are put together of them."""
+    box = Box("ab")
+    world = World.of(g="ab", h="")
+    return [
+        Box(), box, world, World(), world.rows(), world.names(), [box], (box,), ("g", box), [world, box],
+        (world.rows(), world.names()), list(world.rows()),
+    ]
+
+
+def no_strings():
+    """Any values that are no strings."""
+    return plain_values() + own_values()
+
+
+def same_value(one, other):
+    """Whether both values are equal and of the same kinds throughout."""
+    if one.__class__ is not other.__class__:
+        return False
+    if isinstance(one, (list, tuple)):
+        return len(one) == len(other) and all(same_value(left, right) for left, right in zip(one, other))
+    return one == other
+
+
+def contents_of(marks):
+    """Marks that are given in a set, as contents."""
+    return "".join(sorted(marks))
+
+
+def all_contents(marks):
+    """All contents made of these marks, which ascend."""
+    found = [""]
+    for mark in marks:
+        found += [contents + mark for contents in found]
+    return found

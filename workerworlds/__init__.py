@@ -1,0 +1,1 @@
+"""Workerworlds: when a pool of workers answers like a plain loop."""
