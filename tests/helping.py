@@ -1,6 +1,7 @@
 """What several tests need: values of every kind, and comparing by kind, too."""
 
 from workerworlds.boxes import Box
+from workerworlds.errors import BadProgram, TooMany
 from workerworlds.worlds import World
 
 
@@ -56,3 +57,23 @@ def all_contents(marks):
     for mark in marks:
         found += [contents + mark for contents in found]
     return found
+
+
+def raised(test, error, fields, call, *passed, **named):
+    """Asserts that the call raises this very error with these fields, by kind, too."""
+    with test.assertRaises(error) as caught:
+        call(*passed, **named)
+    test.assertIs(caught.exception.__class__, error)
+    for field, value in fields.items():
+        found = getattr(caught.exception, field)
+        test.assertTrue(same_value(found, value), (field, found, value))
+
+
+def bad_program(test, part, at, call, *passed, **named):
+    """Asserts that the call raises BadProgram(part, at)."""
+    raised(test, BadProgram, {"part": part, "at": at}, call, *passed, **named)
+
+
+def too_many(test, what, call, *passed, **named):
+    """Asserts that the call raises TooMany(what)."""
+    raised(test, TooMany, {"what": what}, call, *passed, **named)
