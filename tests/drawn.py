@@ -179,3 +179,82 @@ def drawn_parts(chance):
     caller = drawn_part(chance, marks, known, lefts) if lefts else []
     task = drawn_task(chance, marks, known + ["item", "out"], chance.randrange(17))
     return marks, module, caller, task
+
+
+def drawn_letters(chance, program, many):
+    """A list of so many items, of any marks and any names of the caller."""
+    names = program.names()
+    items = []
+    for _ in range(many):
+        if names and chance.randrange(2):
+            items.append(("name", chance.choice(names)))
+        else:
+            items.append(("box", "".join(mark for mark in program.marks if chance.randrange(3) == 0)))
+    return items
+
+
+def drawn_names(chance, program):
+    """Some globals, in any order."""
+    names = program.global_names()
+    return chance.sample(names, chance.randrange(len(names) + 1))
+
+
+def drawn_cut(chance, count):
+    """A cut of so many items."""
+    sizes = []
+    while sum(sizes) < count:
+        sizes.append(chance.randrange(1, count - sum(sizes) + 1))
+    return tuple(sizes)
+
+
+def drawn_dealing(chance, chunks, workers):
+    """A dealing of so many chunks."""
+    return tuple(chance.randrange(workers) for _ in range(chunks))
+
+
+def talking_row(chance, marks, words):
+    """A row of a task that keeps something of its item, or tells something of what it has kept."""
+    one, other = chance.choice(words), chance.choice(words)
+    mark = "{" + chance.choice(marks) + "}"
+    kept = [f"{one} |= item", f"{one} = item", f"{one} = item | {{}}", f"{one} = {other} | {{}}", f"{one} ^= {mark}",
+            f"{one} = {mark}", f"{one} = {{}}", f"{one} |= {other}", f"{one} &= item", f"{one} = {other} & item"]
+    told = [f"out = {one}", f"out = {one} & {mark}", f"out |= {mark}", f"out = {one} | {{}}"]
+    rare = [f"{one} = {other}", f"item |= {mark}", "fail {}", f"fail {one} from {mark}", "stop", "out = item"]
+    return chance.choice(chance.choice([kept, kept, kept, told, told, rare]))
+
+
+def talking_parts(chance):
+    """Marks and rows of a small program that keeps and tells much; its pools are parted by longer lists, too."""
+    marks = chance.choice(["a", "ab", "ab", "Za", "Zab"])
+    plain = [mark for mark in marks if mark.islower()]
+    words = chance.sample(WORDS, 5)
+    shared, own = words[:chance.randrange(1, 4)], words[3:3 + chance.randrange(2)]
+    module = [f"{word} = {drawn_set(chance, plain) if chance.randrange(3) else '{}'}" for word in shared]
+    if chance.randrange(5) == 0:
+        module.append(f"{shared[-1]} = {shared[0]}")
+    caller = [f"{word} = {chance.choice([*shared, '{}', drawn_set(chance, marks)])}" for word in own]
+    if chance.randrange(3) == 0:
+        caller.append(drawn_plain(chance, marks, shared, shared))
+    task = []
+    while len(task) < 4 or (len(task) < 11 and chance.randrange(3)):
+        if chance.randrange(2):
+            held = [chance.choice(["item", *shared]), chance.choice(shared), drawn_set(chance, plain)]
+            task.append(chance.choice([
+                f"if {chance.choice(plain)} in {held[0]}", f"if not {chance.choice(plain)} in {held[0]}",
+                f"if {held[2]} <= {held[1]}", f"if {held[1]} == {held[2]}"]))
+            task.append(talking_row(chance, plain, shared))
+            if chance.randrange(3) == 0:
+                task += ["else", talking_row(chance, plain, shared)]
+            task.append("end")
+        else:
+            task.append(talking_row(chance, marks, shared))
+    return marks, module, caller, task
+
+
+def drawn_settings(chance, program, way):
+    """Settings of Walk, as keywords."""
+    return {
+        "workers": chance.choice([1, 2, 2, 3]), "chunk": chance.choice([None, 1, 2, 3]),
+        "begin": drawn_names(chance, program) if way == "anew" and chance.randrange(2) else [],
+        "back": drawn_names(chance, program) if chance.randrange(2) else [], "renew": chance.randrange(4) == 0,
+        "seen": chance.choice(["all", "answers"])}

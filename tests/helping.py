@@ -1,7 +1,7 @@
 """What several tests need: values of every kind, and comparing by kind, too."""
 
 from workerworlds.boxes import Box
-from workerworlds.errors import BadProgram, TooMany
+from workerworlds.errors import BadProgram, BadSetting, CannotCross, TooMany
 from workerworlds.worlds import World
 
 
@@ -77,3 +77,23 @@ def bad_program(test, part, at, call, *passed, **named):
 def too_many(test, what, call, *passed, **named):
     """Asserts that the call raises TooMany(what)."""
     raised(test, TooMany, {"what": what}, call, *passed, **named)
+
+
+def bad_setting(test, what, call, *passed, **named):
+    """Asserts that the call raises BadSetting(what)."""
+    raised(test, BadSetting, {"what": what}, call, *passed, **named)
+
+
+def cannot_cross(test, at, what, call, *passed, **named):
+    """Asserts that the call raises CannotCross(at, what)."""
+    raised(test, CannotCross, {"at": at, "what": what}, call, *passed, **named)
+
+
+def any_values():
+    """Values of every kind, strings too."""
+    return no_strings() + ["", "a", "g", "here", "copied", "anew", "all", "answers", "name", "a" * 3000]
+
+
+def no_integers():
+    """Values of every kind that are no integers, truth values among them."""
+    return [thing for thing in any_values() if thing.__class__ is not int]

@@ -3,21 +3,10 @@
 import itertools
 import unittest
 
-from helping import no_strings, raised, same_value, too_many
+from calls import all_cuts
+from helping import bad_setting, no_strings, same_value, too_many
 from workerworlds import dealings
 from workerworlds.dealings import Cuts, Dealings, even_cut, in_turn
-from workerworlds.errors import BadSetting
-
-
-def all_cuts(count):
-    """All cuts of so many items, ascending: beside the package, to compare it with."""
-    if count == 0:
-        return [()]
-    return [(first, *rest) for first in range(1, count + 1) for rest in all_cuts(count - first)]
-
-
-def bad_setting(test, what, call, *passed, **named):
-    raised(test, BadSetting, {"what": what}, call, *passed, **named)
 
 
 # Values that are no integers, and integers that are none of a setting's.

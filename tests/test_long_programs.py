@@ -5,6 +5,7 @@ import unittest
 
 from drawn import Fails, drawn_parts, model_rows, model_task, model_world
 from helping import contents_of, same_value
+from renamed import WORDS, other_contents, other_program, other_rows
 from workerworlds.boxes import Box
 from workerworlds.errors import TaskFailed
 from workerworlds.programs import Program
@@ -152,53 +153,26 @@ class Tasks(unittest.TestCase):
 class Renamed(unittest.TestCase):
     """The same program with other words and other marks."""
 
-    WORDS = {"a": "tas", "g": "zz", "kept": "b", "h": "while", "x": "aa", "for": "k", "items": "ou",
-             "b": "abcdefgh", "y": "m", "abcdefgh": "c"}
-    MARKS = {"a": "q", "b": "e", "c": "k", "X": "B", "Y": "Q", "Z": "A"}
-
-    def contents(self, contents):
-        return contents_of(self.MARKS[mark] for mark in contents)
-
-    def part(self, part, is_mark):
-        if part.startswith("{"):
-            return "{" + self.contents(part[1:-1]) + "}"
-        return self.MARKS[part] if is_mark else self.WORDS.get(part, part)
-
-    def row(self, row):
-        parts = row.split(" ")
-        if row.startswith("if ") or row in ("else", "end", "stop"):
-            # The only mark of a row stands ahead of `in`.
-            return " ".join(
-                part if part in ("if", "not", "in", "is") else self.part(part, parts[at + 1:at + 2] == ["in"])
-                for at, part in enumerate(parts))
-        return " ".join(self.part(part, False) for part in parts)
-
-    def rows(self, rows):
-        found = []
-        for names, contents in rows:
-            found.append((tuple(sorted(self.WORDS.get(name, name) for name in names)), self.contents(contents)))
-        return tuple(sorted(found))
-
     def test_it_behaves_the_same(self):
         chance = random.Random(16)
         for _ in range(600):
             marks, module, caller, task = drawn_parts(chance)
             program = Program(marks, module, caller, task)
-            other = Program(self.contents(marks), *[[self.row(row) for row in part] for part in (module, caller, task)])
-            self.assertEqual(other.imported().rows(), self.rows(program.imported().rows()))
-            self.assertEqual(other.begun().rows(), self.rows(program.begun().rows()))
-            self.assertEqual(other.names(), sorted(self.WORDS[name] for name in program.names()))
+            other = other_program(marks, module, caller, task)
+            self.assertEqual(other.imported().rows(), other_rows(program.imported().rows()))
+            self.assertEqual(other.begun().rows(), other_rows(program.begun().rows()))
+            self.assertEqual(other.names(), sorted(WORDS[name] for name in program.names()))
             rows = program.begun().rows()
             for contents in ["", some_contents(chance, marks), some_contents(chance, marks)]:
                 found = run_task(program, rows, ("box", contents))
-                again = run_task(other, self.rows(rows), ("box", self.contents(contents)))
-                told = [None if text is None else self.contents(text) for text in found[2:]]
-                self.assertEqual(again, (found[0], self.rows(found[1]), *told))
-            world, others = World.read(rows), World.read(self.rows(rows))
+                again = run_task(other, other_rows(rows), ("box", other_contents(contents)))
+                told = [other_contents(text) for text in found[2:]]
+                self.assertEqual(again, (found[0], other_rows(found[1]), *told))
+            world, others = World.read(rows), World.read(other_rows(rows))
             for name in program.names():
                 found = run_task(program, world.rows(), ("name", name))
-                again = run_task(other, others.rows(), ("name", self.WORDS[name]))
-                self.assertEqual((again[0], again[1]), (found[0], self.rows(found[1])))
+                again = run_task(other, others.rows(), ("name", WORDS[name]))
+                self.assertEqual((again[0], again[1]), (found[0], other_rows(found[1])))
 
 
 if __name__ == "__main__":

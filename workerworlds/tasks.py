@@ -86,11 +86,16 @@ class Task:
         return None
 
 
+def box_of(item, world):
+    """The box that an item passes: a new one, or the one that its name has in the world."""
+    kind, told_by = item
+    return Box(told_by) if kind == "box" else world[told_by]
+
+
 def run_task(program, rows, item):
     """Runs the task in a world with these rows, and gives the rows behind it, and what it fails with."""
     world = World.read(rows)
-    kind, told_by = item
-    box = Box(told_by) if kind == "box" else world[told_by]
+    box = box_of(item, world)
     task = Task(program)
     try:
         answer = task(world, box)
