@@ -28,6 +28,7 @@ WRONG_ITEMS = [
     ("box", "x"), ("box", None), ("box", 0), ("box", ["a"]), ("box", ("a",)), ("box", " "), ("Box", "a"), ("", "a"),
     ("name", "y"), ("name", "item"), ("name", "out"), ("name", ""), ("name", "a"), ("name", None), ("name", True),
     ("name", ["x"]), ("name", ("x",)), ("name", "x "), ("name", "sent x"), ("name",), ("name", "x", "x"), ["name", "x"],
+    ("names", "x"), ("Name", "g"), ("", "x"), (None, "x"), (True, "g"), (0, "x"), (("name",), "x"), (["name"], "g"),
     (("box", "a"),), (None, "a"), (True, "a"), (1, "a"), (["box"], "a"), ("a", "box"), ("x", "name"), {"box": "a"},
     ("box", "ab" * 1500), ("box", nested(8, "a")), (nested(8, "box"), "a"),
 ]

@@ -5,23 +5,18 @@ from workerworlds.dealings import MOST_IN_CHUNK, MOST_WORKERS, is_whole
 from workerworlds.errors import BadItem, BadSetting
 
 
-def is_one_of(thing, words):
-    """Whether any value is one of these strings."""
-    return isinstance(thing, str) and thing in words
-
-
 def are_globals(thing, program):
     """Whether any value is a list or tuple of different globals of the program."""
     if not isinstance(thing, (list, tuple)):
         return False
     shared = program.global_names()
-    return all([is_one_of(name, shared) for name in thing]) and len(set(thing)) == len(thing)
+    return all([name in shared for name in thing]) and len(set(thing)) == len(thing)
 
 
 def check_settings(program, ways, way, workers, chunk, begin, back, renew):
     """Raises BadSetting with the name of the first setting that is wrong."""
     right = {
-        "way": is_one_of(way, ways),
+        "way": way in ways,
         "workers": is_whole(workers, 1, MOST_WORKERS),
         "chunk": is_whole(chunk, 1, MOST_IN_CHUNK),
         "begin": are_globals(begin, program),
@@ -40,7 +35,7 @@ def is_item(thing, program):
     kind, told = thing
     if kind == "box":
         return are_contents(told) and all([mark in program.marks for mark in told])
-    return kind == "name" and is_one_of(told, program.names())
+    return kind == "name" and told in program.names()
 
 
 def check_items(items, program):

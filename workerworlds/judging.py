@@ -43,7 +43,7 @@ def judged(walk):
         taken = steps_from(walk, level)
         for scene, letter, move, led in taken:
             if led[0] == "differs":
-                return Verdict(parting([*path_to(came, scene), (letter, move)]), tuple(levels))
+                return Verdict(parting(path_to(came, scene) + [(letter, move)]), tuple(levels))
         level = sorted(newly_reached(came, taken))
         if len(came) > MOST_SCENES:
             raise TooMany("scenes")
@@ -101,7 +101,7 @@ def is_certificate(program, way, thing, *, workers=2, chunk=1, begin=(), back=()
     verdict = judged(walk)
     if verdict:
         return is_same(thing, verdict.certificate)
-    return is_parting(thing, walk, len(verdict)) and parts(thing, walk)
+    return may_part(thing, walk, len(verdict)) and tells_apart(thing, walk)
 
 
 def is_same(thing, wanted):
@@ -113,7 +113,7 @@ def is_same(thing, wanted):
     return isinstance(thing, bool) == isinstance(wanted, bool) and thing == wanted
 
 
-def is_parting(thing, walk, many):
+def may_part(thing, walk, many):
     """Whether any value has the form of a certificate of a parted pool with so many items."""
     if not isinstance(thing, tuple) or len(thing) != 4 or thing[0] != PARTED:
         return False
@@ -127,7 +127,7 @@ def is_parting(thing, walk, many):
     return wrong_worker(dealing, len(cut), walk.workers) is None
 
 
-def parts(thing, walk):
+def tells_apart(thing, walk):
     """Whether the items, the cut and the dealing of a certificate tell a pool from the loop."""
     _, letters, cut, dealing = thing
     loop = Pool(walk.program, Way.HERE).outcome(list(letters))

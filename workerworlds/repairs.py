@@ -1,15 +1,12 @@
 """Repairs: globals that are handed over, brought back or made anew, and the outcomes that a list can have."""
 
-from workerworlds.checks import are_globals, check_items, is_one_of
+from workerworlds.checks import are_globals, check_items
 from workerworlds.dealings import Cuts, Dealings, power
 from workerworlds.errors import BadSetting, CannotCross, TooMany
 from workerworlds.judging import judge
 from workerworlds.scenes import Walk, new_pool
 
-BEGIN = "begin"
-BACK = "back"
-ANEW = "anew"
-KINDS = (BEGIN, BACK, ANEW)
+KINDS = ("begin", "back", "anew")
 MOST_PAIRS = 200
 
 
@@ -37,8 +34,9 @@ def sets_of(names, size):
 
 def is_repair(program, way, kind, names, settings):
     """Whether the pool is alike if this is done with these globals."""
-    if kind == ANEW:
-        return bool(judge(made_anew(program, names), way, **settings))
+    if kind == "anew":
+        other = made_anew(program, names)
+        return bool(judge(other, way, **settings))
     changed = {**settings, kind: names}
     try:
         return bool(judge(program, way, **changed))
@@ -48,11 +46,11 @@ def is_repair(program, way, kind, names, settings):
 
 def least(program, way, kind, *, workers=2, chunk=1, begin=(), back=(), renew=False, seen="all"):
     """The smallest sets of globals that make the pool alike if this is done with them."""
-    if not is_one_of(kind, KINDS):
+    if kind not in KINDS:
         raise BadSetting("kind")
-    settings = {"workers": workers, "chunk": chunk, BEGIN: begin, BACK: back, "renew": renew, "seen": seen}
+    settings = {"workers": workers, "chunk": chunk, "begin": begin, "back": back, "renew": renew, "seen": seen}
     Walk(program, way, **settings)
-    if kind != ANEW and len(settings[kind]) > 0:
+    if kind != "anew" and len(settings[kind]) > 0:
         raise BadSetting(kind)
     shared = program.global_names()
     for size in range(len(shared) + 1):

@@ -1,6 +1,6 @@
 """Scenes: the world of the loop beside the world of one watched worker, and the steps between scenes."""
 
-from workerworlds.checks import check_settings, is_one_of
+from workerworlds.checks import check_settings
 from workerworlds.errors import BadSetting
 from workerworlds.pools import Pool, Way, start_world
 from workerworlds.steps import Step
@@ -16,7 +16,7 @@ class Walk:
         # None stands for any cut, which is right here.
         most = 1 if chunk is None else chunk
         check_settings(program, (Way.COPIED, Way.ANEW), way, workers, most, begin, back, renew)
-        if not is_one_of(seen, SEEN):
+        if seen not in SEEN:
             raise BadSetting("seen")
         begun = program.begun()
         self.program = program

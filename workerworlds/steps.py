@@ -8,7 +8,7 @@ from workerworlds.worlds import World
 
 ANSWER = "answer"
 GIVEN = "given"
-WATCHED = (ANSWER, GIVEN)
+WATCHED = ("answer", "given")
 
 
 def sent_name(name):
@@ -106,8 +106,8 @@ class Step:
 
     def failures_differ(self):
         """Whether the failures of both runs, if any, are not the same for the caller."""
-        if self.loop.failed is None or self.ours.failed is None:
-            return self.loop.failed != self.ours.failed
+        if self.ours.failed is None:
+            return self.loop.failed is not None
         told, cause = self.ours.failed
         return self.loop.failed != self.ours.failed or not can_be_told(told, cause)
 
